@@ -1,0 +1,1 @@
+"""Forktold: trees told by their leaves."""

@@ -1,0 +1,74 @@
+"""Lots: ascending tuples of leaves, and their order."""
+
+from forktold.bounds import MAX_LEAVES
+
+
+def is_integer(value):
+    """Whether a value is an int that is not a bool."""
+    return isinstance(value, int) and not isinstance(value, bool)
+
+
+def is_sized(value):
+    """Whether a value is a pair whose first item is a size."""
+    if not isinstance(value, tuple) or len(value) != 2:
+        return False
+    return is_integer(value[0]) and 1 <= value[0] <= MAX_LEAVES
+
+
+def is_ascending(value, limit):
+    """Whether a value is an ascending tuple of integers from 0 to below a limit."""
+    if not isinstance(value, tuple):
+        return False
+    least = 0
+    for item in value:
+        if not is_integer(item) or item < least or item >= limit:
+            return False
+        least = item + 1
+    return True
+
+
+def is_lot(size, value):
+    """Whether a value is a lot of a size."""
+    return is_ascending(value, size)
+
+
+def all_leaves(size):
+    """The lot of all leaves of a size."""
+    return tuple(range(size))
+
+
+def is_in(lot, other):
+    """Whether each leaf of a lot is one of another one's."""
+    return all([leaf in other for leaf in lot])
+
+
+def crossing(lot, other):
+    """Whether two lots have a leaf in common and neither is in the other."""
+    shared = len([leaf for leaf in lot if leaf in other])
+    return 0 < shared < min(len(lot), len(other))
+
+
+def rank(lot):
+    """What the order of lots compares."""
+    return (len(lot), lot)
+
+
+def in_order(lots):
+    """The lots in order, each once."""
+    once = {lot: True for lot in lots}
+    return tuple(sorted(list(once), key=rank))
+
+
+def first_cross(lots):
+    """The pair of places of the first two lots that cross, None if no two do."""
+    # A lot that comes again crosses what it crossed the first time, so both
+    # places of the first pair are those where their lots stand first.
+    places = {}
+    for place, lot in enumerate(lots):
+        places.setdefault(lot, place)
+    rows = list(places.items())
+    for lot, place in rows:
+        for other, behind in rows:
+            if place < behind and crossing(lot, other):
+                return (place, behind)
+    return None

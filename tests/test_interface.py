@@ -1,0 +1,134 @@
+"""The interface: bounds, errors, names and arguments, and A3's conventions."""
+
+import importlib
+import inspect
+import unittest
+
+from forktold import bounds, errors
+
+BOUNDS = {
+    "MAX_LEAVES": 9, "MAX_LOTS": 600, "MAX_WORDS": 300, "MAX_TREES": 12, "MAX_MIDDLES": 200, "MAX_STATES": 6,
+    "MAX_ROWS": 6, "MAX_LINES": 300, "MAX_COUNT": 200, "MAX_MAPS": 5040, "MAX_EDITS": 40, "BATCH": 12,
+}
+
+ERRORS = {
+    "Unfit": [], "TooMany": ["limit"], "BadText": ["place"], "Cross": ["pair"], "Clash": ["paper"],
+    "NotForked": ["nest"], "NoWeb": ["error"], "NotNest": ["lot"], "NotOrder": ["place"], "TooFar": ["count"],
+    "BadMap": [], "NotTree": ["error"], "NotLeaf": ["value"], "NotLot": ["value"], "BadBatch": [],
+    "Rejected": ["index"], "TooManyEdits": [], "NothingToUndo": [], "NothingToRedo": [], "NoVersion": ["given"],
+    "Changed": ["lot"],
+}
+
+FUNCTIONS = {
+    "lots": "is_lot(size, value) crossing(lot, other) in_order(lots)",
+    "trees": "tree_error(value) tree_of(size, lots) bush(size) comb(size) under(trees)",
+    "texts": "tree_text(tree) parse_tree(value)",
+    "nests": "parts(tree, nest) fork(tree, lot) above(tree, lot) is_forked(tree) level(tree, leaf) "
+             "least_leaves(tree) at(tree, lot) without(tree, leaf) finer(tree, other) finer_pair(tree, other) "
+             "common(tree, other)",
+    "nearer": "nearer_words(tree) has_word(tree, word) contraries(word) tree_of_words(size, words) "
+              "clash_holds(size, words, value) word_follows(size, words, word) follow_paper(size, words, word) "
+              "follow_holds(size, words, word, value) following(size, words) word_fault(size, words) "
+              "telling(tree) untold(tree, words) told_alone(tree, words)",
+    "halvings": "halving_of(size, lot) go_together(halving, other) web_error(value) web_of(size, lots) "
+                "is_forked_web(web) finer_web(web, other)",
+}
+
+TREE = (4, ((0, 1), (0, 1, 2), (0, 1, 2, 3)))
+WORDS = ((0, 1, 2), (1, 2, 3))
+CALLS = {
+    "is_lot": (4, (0, 1)), "crossing": ((0, 1), (1, 2)), "in_order": (((0, 1), (1,)),), "tree_error": (TREE,),
+    "tree_of": (4, ((0, 1),)), "bush": (4,), "comb": (4,), "under": ((TREE, TREE),), "tree_text": (TREE,),
+    "parse_tree": ("((0 1) 2)",), "parts": (TREE, (0, 1)), "fork": (TREE, (0, 2)), "above": (TREE, (0, 1)),
+    "is_forked": (TREE,), "level": (TREE, 1), "least_leaves": (TREE,), "at": (TREE, (0, 2)),
+    "without": (TREE, 1), "finer": (TREE, TREE), "finer_pair": (TREE, TREE), "common": (TREE, TREE),
+    "nearer_words": (TREE,), "has_word": (TREE, (0, 1, 2)), "contraries": ((0, 1, 2),),
+    "tree_of_words": (4, WORDS), "clash_holds": (4, WORDS, ((0, 1, 2), (0, 1))),
+    "word_follows": (4, WORDS, (0, 1, 3)), "follow_paper": (4, WORDS, (0, 1, 3)),
+    "follow_holds": (4, WORDS, (0, 1, 3), ("tree", TREE)), "following": (4, WORDS), "word_fault": (4, WORDS),
+    "telling": (TREE,), "untold": (TREE, WORDS), "told_alone": (TREE, WORDS), "halving_of": (4, (0, 1)),
+    "go_together": ((1, 2), (2, 3)), "web_error": ((4, ((1, 2),)),), "web_of": (4, ((0, 1),)),
+    "is_forked_web": ((4, ((1, 2),)),), "finer_web": ((4, ((1, 2),)), (4, ())),
+}
+
+
+def listed():
+    """Each function of the interface so far: module, name and arguments."""
+    for module, row in FUNCTIONS.items():
+        for told in row.replace(") ", ")\n").split("\n"):
+            name, _, arguments = told.rstrip(")").partition("(")
+            yield module, name, arguments.split(", ")
+
+
+def found(module, name):
+    return getattr(importlib.import_module("forktold." + module), name)
+
+
+def has_list(value):
+    """Whether a result has a list or a dict in it."""
+    if isinstance(value, tuple):
+        return any(has_list(item) for item in value)
+    return isinstance(value, (list, dict, set))
+
+
+class Bounds(unittest.TestCase):
+    def test_bounds(self):
+        self.assertEqual({name: getattr(bounds, name) for name in BOUNDS}, BOUNDS)
+
+
+class Errors(unittest.TestCase):
+    def test_bases(self):
+        self.assertEqual(errors.ForkError.__bases__, (ValueError,))
+        for name in ERRORS:
+            self.assertEqual(getattr(errors, name).__bases__, (errors.ForkError,), name)
+
+    def test_defined_here(self):
+        for name in [*ERRORS, "ForkError"]:
+            self.assertEqual(getattr(errors, name).__module__, "forktold.errors")
+
+    def test_kept_by_place_and_by_name(self):
+        for name, arguments in ERRORS.items():
+            for value in (None, True, 7, 10 ** 399, "x" * 3000, ((0, 1), [2]), {"a": {}}, []):
+                made = [getattr(errors, name)(*[value] * len(arguments))]
+                made.append(getattr(errors, name)(**dict.fromkeys(arguments, value)))
+                for error in made:
+                    with self.subTest(name=name, value=value):
+                        self.assertEqual(list(vars(error)), arguments)
+                        for argument in arguments:
+                            self.assertIs(getattr(error, argument), value)
+                        self.assertIsInstance(str(error), str)
+
+    def test_wrong_number_of_arguments(self):
+        for name, arguments in ERRORS.items():
+            if arguments:
+                with self.assertRaises(TypeError):
+                    getattr(errors, name)()
+
+
+class Functions(unittest.TestCase):
+    def test_defined_where_listed(self):
+        for module, name, _ in listed():
+            function = found(module, name)
+            self.assertTrue(inspect.isfunction(function), name)
+            self.assertEqual(function.__module__, "forktold." + module)
+
+    def test_arguments(self):
+        for module, name, arguments in listed():
+            parameters = inspect.signature(found(module, name)).parameters
+            self.assertEqual(list(parameters), arguments, name)
+            for parameter in parameters.values():
+                self.assertEqual(parameter.kind, parameter.POSITIONAL_OR_KEYWORD)
+                self.assertIs(parameter.default, parameter.empty)
+
+    def test_by_place_and_by_name_with_equal_results(self):
+        self.assertEqual(sorted(CALLS), sorted(name for _, name, _ in listed()))
+        for module, name, arguments in listed():
+            function, values = found(module, name), CALLS[name]
+            first = function(*values)
+            self.assertEqual(repr(function(*values)), repr(first), name)
+            self.assertEqual(repr(function(**dict(zip(arguments, values)))), repr(first), name)
+            self.assertFalse(has_list(first), name)
+
+
+if __name__ == "__main__":
+    unittest.main()
