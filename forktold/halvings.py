@@ -1,12 +1,12 @@
 """Halvings and webs: trees without a root, told by lots without leaf 0."""
 
 from forktold.errors import Cross, Unfit
-from forktold.lots import all_leaves, crossing, first_cross, in_order, is_lot, is_sized, rank
+from forktold.lots import all_leaves, crossing, first_cross, in_order, is_lot, is_sized, lots_in, outside, rank
 
 
 def halving_of(size, lot):
     """The halving that parts a lot from all other leaves, None if there is none."""
-    rest = tuple([leaf for leaf in all_leaves(size) if leaf not in lot])
+    rest = outside(size, lot)
     if len(lot) < 2 or len(rest) < 2:
         return None
     return rest if 0 in lot else lot
@@ -15,6 +15,12 @@ def halving_of(size, lot):
 def is_halving(size, value):
     """Whether a value is a halving of a size."""
     return is_lot(size, value) and halving_of(size, value) == value
+
+
+def all_halvings(size):
+    """All halvings of a size, in order."""
+    others = all_leaves(size)[1:]
+    return [lot for many in range(2, size - 1) for lot in lots_in(others, many)]
 
 
 def go_together(halving, other):

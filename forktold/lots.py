@@ -37,6 +37,24 @@ def all_leaves(size):
     return tuple(range(size))
 
 
+def outside(size, lot):
+    """The lot of all leaves of a size that a lot does not have."""
+    return tuple([leaf for leaf in all_leaves(size) if leaf not in lot])
+
+
+def with_leaf(lot, leaf):
+    """A lot and one leaf more, which it does not have."""
+    return tuple(sorted((*lot, leaf)))
+
+
+def lots_in(lot, many):
+    """All lots of so many leaves that are in a lot, in order."""
+    rows = [()]
+    for _ in range(many):
+        rows = [(*row, leaf) for row in rows for leaf in lot if not row or row[-1] < leaf]
+    return rows
+
+
 def is_in(lot, other):
     """Whether each leaf of a lot is one of another one's."""
     return all([leaf in other for leaf in lot])

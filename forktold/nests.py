@@ -1,7 +1,7 @@
 """Nests of a tree: their parts, and what is left of them elsewhere."""
 
 from forktold.errors import NotForked, NotNest, Unfit
-from forktold.lots import all_leaves, crossing, in_order, is_in
+from forktold.lots import crossing, in_order, is_in, outside
 
 
 def parts(tree, nest):
@@ -61,7 +61,7 @@ def at(tree, lot):
 
 def without(tree, leaf):
     """What is left of a tree without one leaf."""
-    return at(tree, tuple([other for other in all_leaves(tree[0]) if other != leaf]))
+    return at(tree, outside(tree[0], (leaf,)))
 
 
 def need_one_size(tree, other):

@@ -142,6 +142,95 @@ def slow_web_error(value):
     return None
 
 
+def all_halvings(size):
+    """All halvings of a size, in order."""
+    return [lot for lot in all_lots(size) if slow_is_halving(size, lot)]
+
+
+def all_webs(size):
+    """All webs of a size, by halvings that come one behind another."""
+    rows = [()]
+    for halving in all_halvings(size):
+        rows += [(*row, halving) for row in rows if not any(slow_crossing(halving, other) for other in row)]
+    return [(size, row) for row in rows]
+
+
+def forked_webs(size):
+    """All forked webs of a size, in order as tuples."""
+    return sorted(web for web in all_webs(size) if len(web[1]) == max(0, size - 3))
+
+
+def rest_of(size, lot):
+    """The leaves outside of a lot."""
+    return tuple(leaf for leaf in range(size) if leaf not in lot)
+
+
+def slow_unrooted(tree):
+    """The web of the halvings that the nests of a tree make."""
+    size, nests = tree
+    sides = {rest_of(size, nest) if 0 in nest else nest for nest in nests}
+    return size, tuple(lot for lot in all_halvings(size) if lot in sides)
+
+
+def all_fours(size):
+    """All four words of a size, in order."""
+    words = [(a, *pair, *other) for a, b, c, d in combinations(range(size), 4)
+             for pair, other in (((b,), (c, d)), ((c,), (b, d)), ((d,), (b, c)))]
+    return sorted(words)
+
+
+def web_has(web, word):
+    """Whether a web has a four word."""
+    rows = [set(word) & set(halving) for halving in web[1]]
+    return set(word[:2]) in rows or set(word[2:]) in rows
+
+
+def fours_of_web(web):
+    """All four words of a web, in order."""
+    return tuple(word for word in all_fours(web[0]) if web_has(web, word))
+
+
+def slow_four(pair, other):
+    """The four word of two pairs of leaves, each in whatever order."""
+    return sum(sorted([tuple(sorted(pair)), tuple(sorted(other))]), ())
+
+
+def slow_four_fault(size, words):
+    """The two rules of F3, looked at word by word."""
+    there = set(words)
+    for word in sorted(there):
+        twins = sorted(other for other in there if set(other) == set(word) and other != word)
+        if twins:
+            return "two", word, twins[0]
+    for a, b, c, d in sorted(there):
+        for e in sorted(set(range(size)) - {a, b, c, d}):
+            outer = {slow_four((a, b), (c, e)), slow_four((a, b), (d, e))}
+            inner = {slow_four((a, e), (c, d)), slow_four((b, e), (c, d))}
+            if not outer <= there and not inner <= there:
+                return "lacks", (a, b, c, d), e
+    return None
+
+
+def slow_at(tree, lot):
+    """What is left of a tree by the leaves of a lot."""
+    left = {tuple(lot.index(leaf) for leaf in nest if leaf in lot) for nest in tree[1]}
+    return len(lot), tuple(sorted((nest for nest in left if len(nest) > 1), key=rank))
+
+
+def nests_of(trees):
+    """The nests of all trees, in order."""
+    return sorted({nest for tree in trees for nest in tree[1]}, key=rank)
+
+
+def first_crossing(nests):
+    """The first pair of nests in order that cross, None if none do."""
+    return next((pair for pair in combinations(nests, 2) if slow_crossing(*pair)), None)
+
+
+def slow_differs(tree, other):
+    return len(set(tree[1]) ^ set(other[1]))
+
+
 def slow_classes(lot, words):
     """The classes of a lot under words, by joining sets until nothing joins."""
     classes = [{leaf} for leaf in lot]

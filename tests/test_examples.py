@@ -28,7 +28,7 @@ class Examples(unittest.TestCase):
                     self.assertEqual(repr(found), repr(eval(expected)))
 
     def test_found(self):
-        self.assertEqual(len([expected for _, expected in examples() if expected is not None]), 31)
+        self.assertEqual(len([expected for _, expected in examples() if expected is not None]), 67)
 
     def check_error(self, typed, expected, names):
         error = eval(expected, vars(errors).copy())

@@ -6,16 +6,7 @@ from itertools import combinations
 
 from forktold.errors import Cross, Unfit
 from forktold.halvings import finer_web, go_together, halving_of, is_forked_web, web_error, web_of
-from tests.reference import ODD, all_lots, changed, rank, slow_is_halving, slow_web_error, subsets
-
-
-def all_halvings(size):
-    return [lot for lot in all_lots(size) if slow_is_halving(size, lot)]
-
-
-def all_webs(size):
-    """All webs of a size, by taking all sets of its halvings."""
-    return [(size, rows) for rows in subsets(all_halvings(size)) if slow_web_error((size, rows)) is None]
+from tests.reference import ODD, all_halvings, all_lots, all_webs, changed, rank, slow_web_error, subsets
 
 
 WEBS = all_webs(5)

@@ -32,10 +32,23 @@ FUNCTIONS = {
               "telling(tree) untold(tree, words) told_alone(tree, words)",
     "halvings": "halving_of(size, lot) go_together(halving, other) web_error(value) web_of(size, lots) "
                 "is_forked_web(web) finer_web(web, other)",
+    "roots": "rooted(web, leaf) web_of_tree(tree) unrooted(tree) all_rooted(web) knots(web)",
+    "fours": "four_words(web) has_four(web, word) four_at(web, lot) four_fault(size, words) web_of_fours(size, words) "
+             "bad_five(size, words) webs_with(size, words) other_web(web, words) enough(web, words) least_fours(web)",
+    "several": "support(trees, lot) in_all(trees) in_most(trees) not_against(trees) at_least(trees, many) "
+               "by_support(trees) crossing_pair(trees) together(trees) differing(tree, other) differs(tree, other) "
+               "spread(trees, tree) least_spread(trees) is_middle(trees, value) middle_count(trees) middles(trees)",
+    "agree": "clash_threes(trees) hard_threes(trees) is_agreement(trees, lot) agreed_tree(trees, lot) "
+             "agreements(trees) greatest_agreement(trees) fits(trees, lot) fittings(trees) fitted_tree(trees, lot) "
+             "agree_number(tree, other, lot, further) agreement_table(tree, other) distance(tree, other)",
 }
 
 TREE = (4, ((0, 1), (0, 1, 2), (0, 1, 2, 3)))
 WORDS = ((0, 1, 2), (1, 2, 3))
+OTHER = (4, ((0, 1), (2, 3), (0, 1, 2, 3)))
+TREES = (TREE, OTHER, TREE, OTHER)
+WEB = (5, ((1, 2), (1, 2, 3)))
+FOURS = ((0, 3, 1, 2), (0, 4, 1, 2), (0, 4, 1, 3), (0, 4, 2, 3), (1, 2, 3, 4))
 CALLS = {
     "is_lot": (4, (0, 1)), "crossing": ((0, 1), (1, 2)), "in_order": (((0, 1), (1,)),), "tree_error": (TREE,),
     "tree_of": (4, ((0, 1),)), "bush": (4,), "comb": (4,), "under": ((TREE, TREE),), "tree_text": (TREE,),
@@ -49,6 +62,17 @@ CALLS = {
     "telling": (TREE,), "untold": (TREE, WORDS), "told_alone": (TREE, WORDS), "halving_of": (4, (0, 1)),
     "go_together": ((1, 2), (2, 3)), "web_error": ((4, ((1, 2),)),), "web_of": (4, ((0, 1),)),
     "is_forked_web": ((4, ((1, 2),)),), "finer_web": ((4, ((1, 2),)), (4, ())),
+    "rooted": (WEB, 1), "web_of_tree": (TREE,), "unrooted": (TREE,), "all_rooted": (WEB,), "knots": (WEB,),
+    "four_words": (WEB,), "has_four": (WEB, (0, 3, 1, 2)), "four_at": (WEB, (0, 1, 2, 3)),
+    "four_fault": (5, FOURS[:1]), "web_of_fours": (5, FOURS), "bad_five": (5, FOURS[1:]), "webs_with": (5, FOURS[:1]),
+    "other_web": (WEB, FOURS[:1]), "enough": (WEB, FOURS[:1]), "least_fours": (WEB,), "support": (TREES, (0, 1)),
+    "in_all": (TREES,), "in_most": (TREES,), "not_against": (TREES,), "at_least": (TREES, 3), "by_support": (TREES,),
+    "crossing_pair": (TREES,), "together": (TREES[::2],), "differing": (TREE, OTHER), "differs": (TREE, OTHER),
+    "spread": (TREES, TREE), "least_spread": (TREES,), "is_middle": (TREES, TREE), "middle_count": (TREES,),
+    "middles": (TREES,), "clash_threes": (TREES,), "hard_threes": (TREES,), "is_agreement": (TREES, (0, 1, 2)),
+    "agreed_tree": (TREES, (0, 1, 2)), "agreements": (TREES,), "greatest_agreement": (TREES,),
+    "fits": (TREES, (0, 1, 2)), "fittings": (TREES,), "fitted_tree": (TREES, (0, 1, 2)),
+    "agree_number": (TREE, OTHER, (0, 1, 2), (2, 3)), "agreement_table": (TREE, OTHER), "distance": (TREE, OTHER),
 }
 
 
