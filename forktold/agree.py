@@ -2,7 +2,7 @@
 
 from forktold.errors import Clash, NotNest
 from forktold.lots import all_leaves, is_in, lots_in, outside, with_leaf
-from forktold.nests import at
+from forktold.nests import at, tips_and_nests
 from forktold.several import need_trees, together
 
 
@@ -87,11 +87,6 @@ def fitted_tree(trees, lot):
     if threes:
         raise Clash(threes[0])
     return together(tuple([at(tree, lot) for tree in trees]))
-
-
-def tips_and_nests(tree):
-    """All tips and nests of a tree, in order."""
-    return (*[(leaf,) for leaf in all_leaves(tree[0])], *tree[1])
 
 
 def most_within(rows, lot, further):

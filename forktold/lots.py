@@ -27,9 +27,26 @@ def is_ascending(value, limit):
     return True
 
 
+def is_below(limit, value):
+    """Whether a value is an integer from 0 to below a limit."""
+    return is_integer(value) and 0 <= value < limit
+
+
+def is_leaf(size, value):
+    """Whether a value is a leaf of a size."""
+    return is_below(size, value)
+
+
 def is_lot(size, value):
     """Whether a value is a lot of a size."""
     return is_ascending(value, size)
+
+
+def is_row(size, value):
+    """Whether a value is a tuple of all leaves of a size, each once."""
+    if not isinstance(value, tuple) or len(value) != size:
+        return False
+    return all([is_leaf(size, item) for item in value]) and len(set(value)) == size
 
 
 def all_leaves(size):

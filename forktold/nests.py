@@ -1,7 +1,7 @@
 """Nests of a tree: their parts, and what is left of them elsewhere."""
 
 from forktold.errors import NotForked, NotNest, Unfit
-from forktold.lots import crossing, in_order, is_in, outside
+from forktold.lots import all_leaves, crossing, in_order, is_in, is_lot, outside
 
 
 def parts(tree, nest):
@@ -16,6 +16,16 @@ def parts(tree, nest):
             for leaf in inner:
                 part_of[leaf] = inner
     return tuple([part_of[leaf] for leaf in nest if part_of[leaf][0] == leaf])
+
+
+def tips_and_nests(tree):
+    """All tips and nests of a tree, in order."""
+    return (*[(leaf,) for leaf in all_leaves(tree[0])], *tree[1])
+
+
+def is_nest(tree, value):
+    """Whether a value is one of the nests of a tree."""
+    return is_lot(tree[0], value) and value in tree[1]
 
 
 def fork(tree, lot):

@@ -4,7 +4,7 @@ Nothing here imports the program. Trees are made leaf by leaf, lots are looked
 at as sets, and words are looked up in all trees of a size.
 """
 
-from itertools import combinations
+from itertools import combinations, permutations, product
 
 
 def rank(lot):
@@ -225,6 +225,83 @@ def nests_of(trees):
 def first_crossing(nests):
     """The first pair of nests in order that cross, None if none do."""
     return next((pair for pair in combinations(nests, 2) if slow_crossing(*pair)), None)
+
+
+def slow_parts(tree, nest):
+    """The greatest ones of all nests and tips within a nest, by their least leaves."""
+    inner = [lot for lot in [*tree[1], *((leaf,) for leaf in nest)] if set(lot) < set(nest)]
+    return sorted(lot for lot in inner if not any(set(lot) < set(other) for other in inner))
+
+
+def wide_nests(tree):
+    """The nests of more than two parts, in order."""
+    return [nest for nest in tree[1] if len(slow_parts(tree, nest)) > 2]
+
+
+def forked_trees(size):
+    """All forked trees of a size."""
+    return [tree for tree in all_trees(size) if not wide_nests(tree)]
+
+
+def mixed_tree(size, forked, mixed):
+    """A tree by joining two lots at a time, as chance (an object of random.Random) has it."""
+    lots, nests = [(leaf,) for leaf in range(size)], {tuple(range(size))} if size > 1 else set()
+    while len(lots) > 1:
+        first, second = mixed.sample(lots, 2)
+        joint = tuple(sorted(first + second))
+        lots = [lot for lot in lots if lot not in (first, second)] + [joint]
+        if forked or mixed.random() < 0.6:
+            nests.add(joint)
+    return size, tuple(sorted(nests, key=rank))
+
+
+def is_together(line, lot):
+    """Whether the leaves of a lot stand one behind another in a line."""
+    held = [leaf in lot for leaf in line]
+    return any(held[at:at + len(lot)] == [True] * len(lot) for at in range(len(line)))
+
+
+def slow_lines(tree):
+    """All lines that keep a tree, in order."""
+    return [line for line in permutations(range(tree[0])) if all(is_together(line, nest) for nest in tree[1])]
+
+
+def lines_of_lot(tree, lot):
+    """All orders in which the leaves of a nest or tip stand in lines that keep a tree."""
+    if len(lot) == 1:
+        return [lot]
+    inner = {part: lines_of_lot(tree, part) for part in slow_parts(tree, lot)}
+    rows = [chosen for order in permutations(inner) for chosen in product(*(inner[part] for part in order))]
+    return [sum(row, ()) for row in rows]
+
+
+def slow_crossings(line, other):
+    """How many pairs of leaves stand one way in one line, the other way in the other one."""
+    first, second = ({leaf: at for at, leaf in enumerate(row)} for row in (line, other))
+    return sum((first[a] < first[b]) != (second[a] < second[b]) for a, b in combinations(range(len(line)), 2))
+
+
+def slow_shape(tree, lot):
+    """What a nest or tip is without names: the sorted tuple of what its parts are."""
+    return tuple(sorted(slow_shape(tree, part) for part in slow_parts(tree, lot))) if len(lot) > 1 else ()
+
+
+def shape(tree):
+    return slow_shape(tree, tuple(range(tree[0])))
+
+
+def slow_put_in(tree, lot):
+    """The tree with one leaf more: beside a nest or tip, otherwise in the least nest around."""
+    size, nests = tree
+    places = [(leaf,) for leaf in range(size)] + list(nests)
+    new = {nest: tuple(sorted({*nest, size})) if set(lot) < set(nest) else nest for nest in nests}
+    rows = set(new.values()) | ({(*lot, size)} if lot in places else set())
+    return size + 1, tuple(sorted(rows, key=rank))
+
+
+def slow_renamed(tree, naming):
+    """The tree whose leaves have the names that stand at their places."""
+    return tree[0], tuple(sorted((tuple(sorted(naming[leaf] for leaf in nest)) for nest in tree[1]), key=rank))
 
 
 def slow_differs(tree, other):

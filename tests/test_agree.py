@@ -12,7 +12,7 @@ from forktold.errors import Clash, NotNest, TooMany, Unfit
 from forktold.nests import at
 from forktold.several import together
 from forktold.trees import bush, comb, tree_error, tree_of
-from tests.reference import all_lots, all_trees, first_crossing, nests_of, rank, slow_at
+from tests.reference import all_lots, all_trees, first_crossing, mixed_tree, nests_of, rank, slow_at, slow_parts
 
 FOUR = all_trees(4)
 FIVE = all_trees(5)
@@ -23,23 +23,11 @@ def some_trees(trees, many):
     return tuple(MIXED.choices(trees, k=many))
 
 
-def tree_of_nine(forked):
-    """A tree of nine leaves by joining two lots at a time."""
-    lots, nests = [(leaf,) for leaf in range(9)], []
-    while len(lots) > 1:
-        first, second = MIXED.sample(lots, 2)
-        joint = tuple(sorted(first + second))
-        lots = [lot for lot in lots if lot not in (first, second)] + [joint]
-        if forked or MIXED.random() < 0.6:
-            nests.append(joint)
-    return tree_of(9, tuple(nests))
-
-
 ROWS = [(tree, other) for tree in FOUR for other in FOUR] + [(tree,) for size in (1, 2, 3, 4) for tree in all_trees(size)]
 ROWS += [some_trees(FOUR, many) for many in range(3, 13) for _ in range(12)]
 ROWS += [some_trees(FIVE, many) for many in (1, 2, 2, 2, 3, 4, 12) for _ in range(15)]
 ROWS += [((1, ()),) * 12, (bush(2),) * 12, (bush(3), comb(3)), (comb(9),) * 12, (comb(9), bush(9))]
-ROWS += [tuple(tree_of_nine(forked) for _ in range(many)) for forked in (True, False) for many in (2, 3)]
+ROWS += [tuple(mixed_tree(9, forked, MIXED) for _ in range(many)) for forked in (True, False) for many in (2, 3)]
 PAIRS = [trees for trees in ROWS if len(trees) == 2]
 
 
@@ -168,11 +156,6 @@ class Fittings(unittest.TestCase):
 def places(tree):
     """The tips and nests of a tree, in order."""
     return [(leaf,) for leaf in range(tree[0])] + list(tree[1])
-
-
-def slow_parts(tree, nest):
-    inner = [place for place in places(tree) if set(place) < set(nest)]
-    return [place for place in inner if not any(set(place) < set(other) for other in inner)]
 
 
 def best_pairing(table, rows, others):

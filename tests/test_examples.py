@@ -1,5 +1,6 @@
-"""The examples of the document, as they stand in examples.txt."""
+"""The examples of the document, as they stand in examples.txt, and those of README.md."""
 
+import doctest
 import unittest
 from pathlib import Path
 
@@ -28,7 +29,13 @@ class Examples(unittest.TestCase):
                     self.assertEqual(repr(found), repr(eval(expected)))
 
     def test_found(self):
-        self.assertEqual(len([expected for _, expected in examples() if expected is not None]), 67)
+        self.assertEqual(len([expected for _, expected in examples() if expected is not None]), 100)
+
+    def test_readme(self):
+        readme = Path(__file__).resolve().parent.parent / "README.md"
+        failed, tried = doctest.testfile(str(readme), module_relative=False)
+        self.assertEqual(failed, 0)
+        self.assertGreater(tried, 10)
 
     def check_error(self, typed, expected, names):
         error = eval(expected, vars(errors).copy())

@@ -5,6 +5,7 @@ import inspect
 import unittest
 
 from forktold import bounds, errors
+from forktold.trees import bush
 
 BOUNDS = {
     "MAX_LEAVES": 9, "MAX_LOTS": 600, "MAX_WORDS": 300, "MAX_TREES": 12, "MAX_MIDDLES": 200, "MAX_STATES": 6,
@@ -41,6 +42,22 @@ FUNCTIONS = {
     "agree": "clash_threes(trees) hard_threes(trees) is_agreement(trees, lot) agreed_tree(trees, lot) "
              "agreements(trees) greatest_agreement(trees) fits(trees, lot) fittings(trees) fitted_tree(trees, lot) "
              "agree_number(tree, other, lot, further) agreement_table(tree, other) distance(tree, other)",
+    "signs": "changes(tree, marking, signing) fewest_changes(tree, marking) signs(tree, marking) "
+             "signs_holds(tree, marking, value) first_signs(tree, marking) sign_count(tree, marking) "
+             "choices(tree, marking) apart_ways(tree, marking) apart_ways_holds(tree, marking, value) "
+             "fits(tree, marking) fit_clash(tree, marking) joint_tree(size, markings) four_leaves(marking, other)",
+    "lines": "keeps_line(tree, value) line_count(tree) nth_line(tree, number) line_place(tree, line) "
+             "common_line(size, trees) bar(size, trees) bar_holds(size, trees, value) turned(tree, line, nest) "
+             "turns_between(tree, line, last)",
+    "sides": "crossings(line, other) turn_costs(tree, line) least_crossings(tree, line) untangled(tree, line) "
+             "facing(tree, other)",
+    "counts": "tree_count(size) forked_count(size) finer_count(tree) forked_finer(tree) with_nest(size, lot) "
+              "forked_with_nest(size, lot) chance(size, lot) mean_pairs(size) forked_place(tree) "
+              "nth_forked(size, number) shape_count(size) forked_shape_count(size) namings(tree) kept_by_line(size) "
+              "forked_kept_by_line(size)",
+    "moves": "put_in(tree, lot) take_out(tree, leaf) merged(tree, nest) split(tree, lot) steps(tree, other) "
+             "steps_error(tree, other, value) turns(tree) row_of_turns(tree, other) cut_and_put(tree, lot, place)",
+    "renames": "renamed(tree, naming) renamings(tree, other) same_shape(tree, other) normal(tree)",
 }
 
 TREE = (4, ((0, 1), (0, 1, 2), (0, 1, 2, 3)))
@@ -49,6 +66,10 @@ OTHER = (4, ((0, 1), (2, 3), (0, 1, 2, 3)))
 TREES = (TREE, OTHER, TREE, OTHER)
 WEB = (5, ((1, 2), (1, 2, 3)))
 FOURS = ((0, 3, 1, 2), (0, 4, 1, 2), (0, 4, 1, 3), (0, 4, 2, 3), (1, 2, 3, 4))
+MARKING = (0, 1, 0, 1)
+LINE = (3, 2, 1, 0)
+APART = tuple((4, (nest, (0, 1, 2, 3))) for nest in ((0, 1), (0, 2), (0, 3)))
+# By the names of functions, and with its module ahead where two have one name.
 CALLS = {
     "is_lot": (4, (0, 1)), "crossing": ((0, 1), (1, 2)), "in_order": (((0, 1), (1,)),), "tree_error": (TREE,),
     "tree_of": (4, ((0, 1),)), "bush": (4,), "comb": (4,), "under": ((TREE, TREE),), "tree_text": (TREE,),
@@ -73,6 +94,22 @@ CALLS = {
     "agreed_tree": (TREES, (0, 1, 2)), "agreements": (TREES,), "greatest_agreement": (TREES,),
     "fits": (TREES, (0, 1, 2)), "fittings": (TREES,), "fitted_tree": (TREES, (0, 1, 2)),
     "agree_number": (TREE, OTHER, (0, 1, 2), (2, 3)), "agreement_table": (TREE, OTHER), "distance": (TREE, OTHER),
+    "changes": (TREE, MARKING, (0, 1, 0)), "fewest_changes": (TREE, MARKING), "signs": (TREE, MARKING),
+    "signs_holds": (TREE, MARKING, (0, 0, 0)), "first_signs": (TREE, MARKING), "sign_count": (TREE, MARKING),
+    "choices": (TREE, MARKING), "apart_ways": (TREE, MARKING), "apart_ways_holds": (TREE, MARKING, ((0, 1), (2, 3))),
+    "signs.fits": (TREE, MARKING), "fit_clash": (TREE, MARKING), "joint_tree": (4, (MARKING, MARKING[::-1])),
+    "four_leaves": (MARKING, (0, 0, 1, 1)), "keeps_line": (TREE, LINE), "line_count": (TREE,), "nth_line": (TREE, 5),
+    "line_place": (TREE, LINE), "common_line": (4, TREES), "bar": (4, APART), "bar_holds": (4, APART, APART[0][1]),
+    "turned": (TREE, LINE, (0, 1, 2)), "turns_between": (TREE, LINE, (0, 1, 2, 3)), "crossings": (LINE, (2, 0, 1, 3)),
+    "turn_costs": (TREE, (2, 3, 0, 1)), "least_crossings": (TREE, (0, 3, 1, 2)), "untangled": (TREE, (0, 3, 1, 2)),
+    "facing": (TREE, OTHER), "tree_count": (200,), "forked_count": (200,), "finer_count": (bush(5),),
+    "forked_finer": (bush(5),), "with_nest": (200, (0, 199)), "forked_with_nest": (5, (1, 3)), "chance": (5, (1, 3)),
+    "mean_pairs": (200,), "forked_place": (TREE,), "nth_forked": (9, 2027024), "shape_count": (20,),
+    "forked_shape_count": (200,), "namings": (TREE,), "kept_by_line": (200,), "forked_kept_by_line": (200,),
+    "put_in": (TREE, (0, 2)), "take_out": (TREE, 1), "merged": (TREE, (0, 1)), "split": (OTHER, (0, 1)),
+    "steps": (TREE, OTHER), "steps_error": (TREE, OTHER, (TREE, OTHER)), "turns": (TREE,),
+    "row_of_turns": (TREE, OTHER), "cut_and_put": (TREE, (0, 1), (3,)), "renamed": (TREE, LINE),
+    "renamings": (TREE, TREE), "same_shape": (TREE, OTHER), "normal": (OTHER,),
 }
 
 
@@ -129,6 +166,20 @@ class Errors(unittest.TestCase):
                     getattr(errors, name)()
 
 
+class Classes(unittest.TestCase):
+    def test_defined_where_listed(self):
+        for module, names in (("boards", ("Board", "KeptBoard")), ("shells", ("Shell",)), ("errors", ERRORS)):
+            for name in names:
+                self.assertTrue(inspect.isclass(found(module, name)))
+                self.assertEqual(found(module, name).__module__, "forktold." + module)
+
+    def test_arguments(self):
+        for module, name, arguments in (("boards", "Board", ["value"]), ("boards", "KeptBoard", ["value"]), ("shells", "Shell", [])):
+            parameters = inspect.signature(found(module, name)).parameters
+            self.assertEqual(list(parameters), arguments)
+            self.assertTrue(all(parameter.default is parameter.empty for parameter in parameters.values()))
+
+
 class Functions(unittest.TestCase):
     def test_defined_where_listed(self):
         for module, name, _ in listed():
@@ -145,13 +196,16 @@ class Functions(unittest.TestCase):
                 self.assertIs(parameter.default, parameter.empty)
 
     def test_by_place_and_by_name_with_equal_results(self):
-        self.assertEqual(sorted(CALLS), sorted(name for _, name, _ in listed()))
+        used = []
         for module, name, arguments in listed():
-            function, values = found(module, name), CALLS[name]
+            key = module + "." + name if module + "." + name in CALLS else name
+            used.append(key)
+            function, values = found(module, name), CALLS[key]
             first = function(*values)
             self.assertEqual(repr(function(*values)), repr(first), name)
             self.assertEqual(repr(function(**dict(zip(arguments, values)))), repr(first), name)
             self.assertFalse(has_list(first), name)
+        self.assertEqual(sorted(CALLS), sorted(used))
 
 
 if __name__ == "__main__":

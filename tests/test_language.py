@@ -107,7 +107,8 @@ class Language(unittest.TestCase):
             self.assertTrue(all(isinstance(node, kinds) for node in body))
 
     def test_names(self):
-        known = {*dir(__import__("builtins"))}
+        # Where an example was shown, Python keeps it under the name _.
+        known = {*dir(__import__("builtins"))} - {"_"}
         for _, _, tree in self.each():
             used = {node.id for node in ast.walk(tree) if isinstance(node, ast.Name) and isinstance(node.ctx, ast.Load)}
             mine = set(bound(tree))

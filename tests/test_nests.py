@@ -7,14 +7,9 @@ from forktold.nests import (
     above, at, common, finer, finer_pair, fork, is_forked, least_leaves, level, need_forked, parts, without,
 )
 from forktold.trees import bush, comb, tree_error, tree_of
-from tests.reference import all_lots, all_trees, rank, slow_crossing
+from tests.reference import all_lots, all_trees, rank, slow_crossing, slow_parts
 
 SMALL = [tree for size in (1, 2, 3, 4, 5) for tree in all_trees(size)]
-
-
-def slow_parts(tree, nest):
-    inner = [lot for lot in [*tree[1], *((leaf,) for leaf in nest)] if set(lot) < set(nest)]
-    return tuple(sorted(lot for lot in inner if not any(set(lot) < set(other) for other in inner)))
 
 
 class Parts(unittest.TestCase):
@@ -22,7 +17,7 @@ class Parts(unittest.TestCase):
         for tree in SMALL:
             for nest in tree[1]:
                 found = parts(tree, nest)
-                self.assertEqual(found, slow_parts(tree, nest))
+                self.assertEqual(found, tuple(slow_parts(tree, nest)))
                 self.assertGreaterEqual(len(found), 2)
                 self.assertEqual(sorted(leaf for part in found for leaf in part), list(nest))
 
