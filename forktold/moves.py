@@ -109,7 +109,8 @@ def row_of_turns(tree, other):
     reached = [other]
     while tree not in behind:
         further = []
-        for last in reached:
+        # A copy, as reached was called further in the pass ahead of this one.
+        for last in list(reached):
             for turn in turns(last):
                 if turn not in behind:
                     behind[turn] = (last, *behind[last])

@@ -24,6 +24,10 @@ BUILTINS = {
     "ValueError", "TypeError", "KeyError", "IndexError", "NotImplemented", "super", "property",
 }
 
+MODIFYING = {"append", "clear", "extend", "insert", "pop", "remove", "reverse", "setdefault", "sort", "update"}
+OVER = {"enumerate", "reversed", "zip"}
+VIEWS = {"items", "keys", "values"}
+
 
 def files():
     return sorted(PACKAGE.rglob("*.py"))
@@ -40,6 +44,73 @@ def bound(tree):
             yield node.id
         elif isinstance(node, ast.ImportFrom):
             yield from (name.name for name in node.names)
+
+
+def meant(node):
+    """What an expression may stand for without a copy: names, and fields by their names alone."""
+    if isinstance(node, ast.Name):
+        return {node.id}
+    if isinstance(node, ast.Attribute):
+        return {"." + node.attr}
+    if isinstance(node, ast.Subscript) and not isinstance(node.slice, ast.Slice):
+        return {ast.unparse(node)}
+    if isinstance(node, ast.IfExp):
+        return meant(node.body) | meant(node.orelse)
+    if isinstance(node, ast.BoolOp):
+        return set().union(*map(meant, node.values))
+    return set()
+
+
+def walked(node):
+    """What a loop over an expression walks."""
+    if isinstance(node, ast.Call):
+        if isinstance(node.func, ast.Name) and node.func.id in OVER:
+            return set().union(*map(walked, node.args))
+        if isinstance(node.func, ast.Attribute) and node.func.attr in VIEWS:
+            return meant(node.func.value)
+    return meant(node)
+
+
+def modified(body):
+    """What is modified somewhere in some nodes."""
+    found = set()
+    for node in [inner for outer in body for inner in ast.walk(outer)]:
+        if isinstance(node, ast.Call) and isinstance(node.func, ast.Attribute) and node.func.attr in MODIFYING:
+            found |= meant(node.func.value)
+        elif isinstance(node, ast.AugAssign):
+            found |= meant(node.target)
+        elif isinstance(node, ast.Subscript) and not isinstance(node.ctx, ast.Load):
+            found |= meant(node.value)
+    return found
+
+
+def same_things(function):
+    """The lots of names and fields of a function of which one may stand for what another one does."""
+    lots = []
+    for node in ast.walk(function):
+        if isinstance(node, ast.Assign):
+            for target in node.targets:
+                both = meant(target) | meant(node.value)
+                lots = [lot for lot in lots if not lot & both] + [both.union(*[lot for lot in lots if lot & both])]
+    return lots
+
+
+def loops_that_modify(tree):
+    """The rows of all loops in which what they walk is modified, by whatever name of the same function."""
+    rows = set()
+    for function in [node for node in ast.walk(tree) if isinstance(node, ast.FunctionDef)]:
+        lots = same_things(function)
+        for loop in ast.walk(function):
+            if isinstance(loop, ast.For):
+                names, body = walked(loop.iter), loop.body
+            elif isinstance(loop, (ast.ListComp, ast.SetComp, ast.DictComp, ast.GeneratorExp)):
+                names, body = set().union(*[walked(part.iter) for part in loop.generators]), [loop]
+            else:
+                continue
+            names = names.union(*[lot for lot in lots if lot & names])
+            if names & modified(body):
+                rows.add(loop.lineno)
+    return sorted(rows)
 
 
 class Language(unittest.TestCase):
@@ -118,6 +189,23 @@ class Language(unittest.TestCase):
             }
             self.assertEqual((mine - methods) & known, set())
             self.assertLessEqual(used & known - mine, BUILTINS)
+
+    def test_what_a_loop_walks_is_not_modified_in_it(self):
+        found = {path.name: loops_that_modify(tree) for path, _, tree in self.each()}
+        self.assertEqual([(name, rows) for name, rows in found.items() if rows], [])
+
+    def test_loops_that_modify_are_seen(self):
+        rows = ("def go(self, a, b, c):", "    while b:", "        c = []", "        for x in {}:", "            {}")
+        for over, then, many in (
+            ("a", "a.append(x)", 1), ("a", "c.append(x)", 0), ("b", "c.append(x)", 1), ("list(b)", "c.append(x)", 0),
+            ("enumerate(b)", "c[0] = x", 1), ("zip(a, b)", "del c[0]", 1), ("b or a", "c += [x]", 1),
+            ("a if x else b", "c.pop()", 1), ("b[1:]", "c.pop()", 0), ("a.items()", "a[x] = 1", 1),
+            ("self.a", "self.a.clear()", 1), ("self.a", "self.b.clear()", 0), ("a[0]", "a[0].append(x)", 1),
+            ("a", "y = [c.pop() for z in b]", 1), ("a", "y = [c.pop() for z in list(b)]", 0),
+        ):
+            text = "\n".join([*rows, "        b = c"]).format(over, then)
+            with self.subTest(over=over, then=then):
+                self.assertEqual(len(loops_that_modify(ast.parse(text))), many)
 
     def test_each_import_is_used_and_hidden_by_nothing(self):
         for _, _, tree in self.each():
